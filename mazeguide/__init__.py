@@ -1,0 +1,1 @@
+"""Mazeguide: rooms, doors that keys open, and the shortest walk."""
