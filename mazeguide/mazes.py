@@ -63,9 +63,13 @@ def need_kind(kind):
 
 def keys_in(maze, room):
     """Give the kinds of the keys that lie in the room, ascending, each once."""
-    rooms, _, keys = maze
-    need_room(rooms, room)
-    return tuple(sorted({kind for where, kind in keys if where == room}))
+    need_room(maze[0], room)
+    return keys_among(maze, [room])
+
+
+def keys_among(maze, rooms):
+    """Give the kinds of the keys that lie in any of the rooms, ascending, each once."""
+    return tuple(sorted({kind for room, kind in maze[2] if room in rooms}))
 
 
 def taken(maze, room, held):

@@ -17,6 +17,24 @@ RING = (
     [(1, 3), (1, 0), (2, 4), (1, 3), (3, 1), (0, 2), (2, 4)],
 )
 
+# Five rooms round room 0, with a key of another kind in each, and a row of rooms on from 0 with
+# doors of each kind across it: nearly every room with every set of keys is a state.
+MANY_STATES = (
+    60,
+    [(0, room, None) for room in range(1, 7)]
+    + [(room, room + 1, None) for room in range(6, 59)]
+    + [(room, room + 5, room % 5) for room in range(20, 51)],
+    [(room, room - 1) for room in range(1, 6)] + [(5, 4)] * 55,
+)
+
+# From each fourth room to the next one by way of any of three: 3 ** 14 walks of the same length.
+MANY_WALKS = (
+    60,
+    [(at, at + by, None) for at in range(0, 56, 4) for by in (3, 1, 2)]
+    + [(at + by, at + 4, None) for at in range(0, 56, 4) for by in (2, 3, 1)],
+    [(at, at % 5) for at in range(60)],
+)
+
 
 def ring():
     """Give a RING of one's own."""

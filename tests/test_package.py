@@ -19,6 +19,18 @@ FUNCTIONS = {
         "steps": ["maze", "room", "held"],
         "walked": ["maze", "walk"],
     },
+    "mazeguide.rows": {
+        "layers": ["maze", "start"],
+        "nearest": ["maze", "start"],
+    },
+    "mazeguide.guides": {
+        "come": ["maze", "start"],
+        "guide": ["maze", "start", "goal"],
+    },
+    "mazeguide.notes": {
+        "written": ["maze"],
+        "read": ["text"],
+    },
 }
 
 CLASSES = {

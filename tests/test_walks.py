@@ -1,11 +1,12 @@
 """Going through doors: opens, steps and walked."""
 
 import unittest
-from itertools import combinations_with_replacement, product
+from itertools import product
 
 from mazeguide.errors import NoDoor, NoRoom, Shut
 from mazeguide.walks import opens, steps, walked
 from tests.support import FAR_BELOW, HUGE, outcome, outcome_unchanged, ring
+from tests.told import small_mazes
 
 ALL = (0, 1, 2, 3, 4)
 
@@ -212,14 +213,6 @@ def told_walked(maze, walk):
             return Shut
         held |= {kind for room, kind in keys if room == walk[at]}
     return tuple(sorted(held))
-
-
-def small_mazes():
-    """All mazes of three rooms with two doors of two kinds of locks, and some keys."""
-    all_doors = list(product(range(3), range(3), (None, 0, 1)))
-    for doors in combinations_with_replacement(all_doors, 2):
-        for keys in ([], [(0, 0)], [(1, 1), (0, 0), (1, 1)]):
-            yield (3, list(doors), keys)
 
 
 class AllSmallMazes(unittest.TestCase):
